@@ -1,0 +1,1 @@
+"""Unstruck: placings on boards with holes."""
