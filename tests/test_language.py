@@ -38,6 +38,15 @@ UNUSED_WORDS = re.compile(
     r"|NamedTuple|TypedDict|TYPE_CHECKING|abstractmethod)\b|dataclass|overload|contextmanager"
 )
 UNDERSCORED = ("__init__", "__eq__", "__repr__", "__str__", "__len__")
+KEYWORDS = {
+    "sorted": ("key", "reverse"), "min": ("key", "default"), "max": ("key", "default"), "sum": ("start",),
+    "enumerate": ("start",), "zip": ("strict",),
+}
+WALKED = ("zip", "enumerate", "reversed", "range", "items", "keys", "values")
+WALKERS = ("list", "tuple", "dict", "sorted", "sum", "any", "all", "enumerate", "zip", "join")
+PLAIN_VALUES = (
+    ast.Constant, ast.List, ast.Tuple, ast.Dict, ast.Name, ast.UnaryOp, ast.USub, ast.expr_context,
+)
 
 
 def python_files():
@@ -49,6 +58,24 @@ def nodes_of(kind):
         for node in ast.walk(ast.parse(path.read_text(encoding="ascii"))):
             if isinstance(node, kind):
                 yield f"{path.name}:{getattr(node, 'lineno', 0)}", node
+
+
+def trees():
+    return [(path.name, ast.parse(path.read_text(encoding="ascii"))) for path in python_files()]
+
+
+def nodes_with_parents(kind):
+    for name, tree in trees():
+        for parent in ast.walk(tree):
+            for node in ast.iter_child_nodes(parent):
+                if isinstance(node, kind):
+                    yield f"{name}:{getattr(node, 'lineno', 0)}", node, parent
+
+
+def called_name(node):
+    if not isinstance(node, ast.Call):
+        return None
+    return node.func.id if isinstance(node.func, ast.Name) else getattr(node.func, "attr", None)
 
 
 def names_bound(node):
@@ -127,6 +154,91 @@ class Forms(unittest.TestCase):
             self.assertTrue(free, left)
             for name in free:
                 del left[name]
+
+
+class Tops(unittest.TestCase):
+    def test_what_stands_at_a_files_top(self):
+        for name, tree in trees():
+            for place, node in enumerate(tree.body):
+                where = f"{name}:{node.lineno}"
+                if isinstance(node, ast.Expr):
+                    self.assertTrue(place == 0 and ast.get_docstring(tree), where)
+                elif isinstance(node, ast.Assign):
+                    for part in ast.walk(node.value):
+                        self.assertIsInstance(part, PLAIN_VALUES, where)
+                    within = [part for part in ast.walk(node.value) if isinstance(part, (ast.List, ast.Dict))]
+                    self.assertTrue(within in ([], [node.value]), where)
+                else:
+                    self.assertIsInstance(node, (ast.ImportFrom, ast.FunctionDef, ast.ClassDef), where)
+
+    def test_imports_and_classes_stand_at_the_top_alone(self):
+        for where, node, parent in nodes_with_parents((ast.ImportFrom, ast.ClassDef)):
+            self.assertIsInstance(parent, ast.Module, where)
+
+    def test_each_name_once_and_no_local_like_an_import_or_class(self):
+        for name, tree in trees():
+            imported = [alias.name for node in tree.body if isinstance(node, ast.ImportFrom) for alias in node.names]
+            classes = [node.name for node in tree.body if isinstance(node, ast.ClassDef)]
+            others = [node.name for node in tree.body if isinstance(node, ast.FunctionDef)]
+            others += [node.targets[0].id for node in tree.body if isinstance(node, ast.Assign)]
+            bound = imported + classes + others
+            self.assertEqual(len(set(bound)), len(bound), name)
+            for function in [node for node in ast.walk(tree) if isinstance(node, ast.FunctionDef)]:
+                for node in ast.walk(function):
+                    for local in names_bound(node):
+                        self.assertNotIn(local, imported + classes, f"{name}:{node.lineno}")
+
+
+class Calls(unittest.TestCase):
+    def test_no_annotation(self):
+        for where, node in nodes_of(ast.arg):
+            self.assertIsNone(node.annotation, where)
+        for where, node in nodes_of(ast.FunctionDef):
+            self.assertIsNone(node.returns, where)
+
+    def test_keywords(self):
+        own = {node.name for where, node in nodes_of(ast.FunctionDef)}
+        for where, node in nodes_of(ast.Call):
+            for keyword in node.keywords:
+                name = called_name(node)
+                self.assertTrue(name in own or keyword.arg in KEYWORDS.get(name, ()), where)
+
+    def test_pythons_own_are_called_not_kept(self):
+        for where, node, parent in nodes_with_parents(ast.Name):
+            if node.id not in BUILT_IN or isinstance(parent, (ast.keyword, ast.ExceptHandler, ast.Raise, ast.ClassDef)):
+                continue
+            kinds_asked = isinstance(parent, ast.Tuple) or called_name(parent) == "isinstance"
+            self.assertTrue(kinds_asked or (isinstance(parent, ast.Call) and parent.func is node), where)
+
+    def test_methods_are_called_where_they_stand(self):
+        for where, node, parent in nodes_with_parents(ast.Attribute):
+            if node.attr in METHODS:
+                self.assertIsInstance(parent, (ast.Call, ast.keyword), where)
+
+    def test_walked_at_once(self):
+        for where, node, parent in nodes_with_parents(ast.Call):
+            if called_name(node) in WALKED:
+                looped = isinstance(parent, (ast.For, ast.comprehension)) and parent.iter is node
+                handed = isinstance(parent, ast.Call) and node in parent.args
+                first = handed and called_name(parent) in WALKERS
+                alone = handed and called_name(parent) in ("min", "max") and len(parent.args) == 1
+                self.assertTrue(looped or first or alone, where)
+
+    def test_sets_are_not_kept_and_not_walked(self):
+        for where, node, parent in nodes_with_parents((ast.Call, ast.Set)):
+            if isinstance(node, ast.Set) or called_name(node) in ("set", "frozenset"):
+                asked = isinstance(parent, (ast.Compare, ast.BinOp))
+                self.assertTrue(asked or called_name(parent) in ("sorted", "len"), where)
+
+    def test_numbers_and_texts(self):
+        for where, node in nodes_of(ast.Constant):
+            self.assertNotIn("%", node.value if isinstance(node.value, str) else "", where)
+        for where, node in nodes_of(ast.BinOp):
+            if isinstance(node.op, ast.Pow):
+                self.assertTrue(isinstance(node.right, ast.Constant) and 0 <= node.right.value <= 64, where)
+        for path in python_files():
+            for escape in re.findall(r"\\(.)", path.read_text(encoding="ascii"), re.DOTALL):
+                self.assertIn(escape, "nt\\\"'", path)
 
 
 class Names(unittest.TestCase):
