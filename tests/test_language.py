@@ -43,6 +43,7 @@ KEYWORDS = {
     "enumerate": ("start",), "zip": ("strict",),
 }
 WALKED = ("zip", "enumerate", "reversed", "range", "items", "keys", "values")
+CHANGES = ("append", "clear", "extend", "insert", "pop", "remove", "reverse", "setdefault", "update")
 WALKERS = ("list", "tuple", "dict", "sorted", "sum", "any", "all", "enumerate", "zip", "join")
 PLAIN_VALUES = (
     ast.Constant, ast.List, ast.Tuple, ast.Dict, ast.Name, ast.UnaryOp, ast.USub, ast.expr_context,
@@ -88,6 +89,27 @@ def names_bound(node):
     return []
 
 
+def names_walked(node):
+    """The names that a loop walks, itself or through another, but not through a copy."""
+    if isinstance(node, ast.Name):
+        return [node.id]
+    if called_name(node) in ("enumerate", "zip", "reversed"):
+        return [name for part in node.args for name in names_walked(part)]
+    if called_name(node) in ("items", "keys", "values"):
+        return names_walked(node.func.value)
+    return []
+
+
+def names_changed(node):
+    if called_name(node) in CHANGES and isinstance(node.func, ast.Attribute):
+        return [part.id for part in ast.walk(node.func.value) if isinstance(part, ast.Name)]
+    if isinstance(node, ast.Subscript) and isinstance(node.ctx, ast.Store):
+        return [part.id for part in ast.walk(node.value) if isinstance(part, ast.Name)]
+    if isinstance(node, ast.AugAssign) and isinstance(node.target, ast.Name):
+        return [node.target.id]
+    return []
+
+
 class Files(unittest.TestCase):
     def test_nothing_but_plain_files(self):
         self.assertTrue((PACKAGE / "__init__.py").is_file())
@@ -128,6 +150,19 @@ class Forms(unittest.TestCase):
                 self.assertLessEqual(len(node.generators[0].ifs), 1, where)
         for where, node in nodes_of((ast.Div, ast.MatMult)):
             self.fail(where)
+
+    def test_what_stands_by_itself_in_a_function_is_a_call(self):
+        for where, node in nodes_of(ast.FunctionDef):
+            for part in ast.walk(node):
+                if isinstance(part, ast.Expr):
+                    self.assertIsInstance(part.value, ast.Call, where)
+
+    def test_class_bodies(self):
+        for where, node in nodes_of(ast.ClassDef):
+            self.assertLessEqual(len(node.bases), 1, where)
+            self.assertEqual(node.keywords, [], where)
+            for part in node.body:
+                self.assertIsInstance(part, (ast.FunctionDef, ast.Pass), where)
 
     def test_is_stands_beside_none_and_the_truths(self):
         for where, node in nodes_of(ast.Compare):
@@ -223,6 +258,14 @@ class Calls(unittest.TestCase):
                 first = handed and called_name(parent) in WALKERS
                 alone = handed and called_name(parent) in ("min", "max") and len(parent.args) == 1
                 self.assertTrue(looped or first or alone, where)
+
+    def test_what_a_loop_walks_is_not_changed_in_it(self):
+        for where, node in nodes_of(ast.For):
+            walked = names_walked(node.iter)
+            for statement in node.body:
+                for part in ast.walk(statement):
+                    for name in names_changed(part):
+                        self.assertNotIn(name, walked, where)
 
     def test_sets_are_not_kept_and_not_walked(self):
         for where, node, parent in nodes_with_parents((ast.Call, ast.Set)):

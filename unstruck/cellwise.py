@@ -2,16 +2,13 @@
 
 from unstruck.boards import cells_of
 from unstruck.errors import TooGreat
+from unstruck.reckoning import number_at
 
 MOST_CELLS = 12
 
 
 def not_struck_by(cell, cells):
     return [other for other in cells if other[0] != cell[0] and other[1] != cell[1]]
-
-
-def number_at(numbers, place):
-    return numbers[place] if place < len(numbers) else 0
 
 
 def sum_of(one, other):
