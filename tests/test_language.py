@@ -191,6 +191,60 @@ class Forms(unittest.TestCase):
                 del left[name]
 
 
+class Classes(unittest.TestCase):
+    def test_where_a_class_may_stand(self):
+        own = {node.name for where, node in nodes_of(ast.ClassDef)}
+        for where, node, parent in nodes_with_parents(ast.Name):
+            if node.id in own:
+                called = isinstance(parent, ast.Call) and (parent.func is node or called_name(parent) == "isinstance")
+                self.assertTrue(called or isinstance(parent, (ast.ClassDef, ast.ExceptHandler, ast.Raise)), where)
+
+    def test_values_are_given_through_a_local_name_and_called_like_none_of_pythons(self):
+        pythons = {name for kind in (str, int, list, dict, set, bytes) for name in dir(kind)} | {"args"}
+        for where, node in nodes_of(ast.Attribute):
+            if isinstance(node.ctx, ast.Store):
+                self.assertIsInstance(node.value, ast.Name, where)
+                self.assertEqual(node.value.id, node.value.id.lower(), where)
+                self.assertNotIn(node.attr, pythons, where)
+
+    def test_no_method_twice_and_none_like_a_value(self):
+        values = {node.attr for where, node in nodes_of(ast.Attribute) if isinstance(node.ctx, ast.Store)}
+        for where, node in nodes_of(ast.ClassDef):
+            methods = [part.name for part in node.body if isinstance(part, ast.FunctionDef)]
+            self.assertEqual(len(set(methods)), len(methods), where)
+            self.assertEqual(values & set(methods), set(), where)
+
+    def test_a_making_gives_nothing_back(self):
+        for where, node in nodes_of(ast.FunctionDef):
+            # Of the methods with two underscores the program has no other one.
+            self.assertFalse(node.name.startswith("__") and node.name != "__init__", where)
+            if node.name == "__init__":
+                self.assertFalse([part for part in ast.walk(node) if isinstance(part, ast.Return)], where)
+
+
+class Errors(unittest.TestCase):
+    """The program raises and takes its own errors alone, so that Python's need no rule here."""
+
+    def setUp(self):
+        tree = dict(trees())["errors.py"]
+        self.own = {node.name for node in tree.body if isinstance(node, ast.ClassDef)}
+
+    def test_raised_by_name_and_made_on_the_spot(self):
+        for where, node in nodes_of(ast.Raise):
+            self.assertIn(called_name(node.exc), self.own, where)
+            self.assertIsNone(node.cause, where)
+
+    def test_taken_by_name(self):
+        for where, node in nodes_of(ast.ExceptHandler):
+            self.assertIsInstance(node.type, ast.Name, where)
+            self.assertIn(node.type.id, self.own, where)
+
+    def test_bases(self):
+        for where, node in nodes_of(ast.ClassDef):
+            for base in node.bases:
+                self.assertIn(base.id, self.own | {"ValueError"}, where)
+
+
 class Tops(unittest.TestCase):
     def test_what_stands_at_a_files_top(self):
         for name, tree in trees():
@@ -225,6 +279,10 @@ class Tops(unittest.TestCase):
 
 
 class Calls(unittest.TestCase):
+    def test_no_written_set_and_no_lambda(self):
+        for where, node in nodes_of((ast.Set, ast.Lambda)):
+            self.fail(where)
+
     def test_no_annotation(self):
         for where, node in nodes_of(ast.arg):
             self.assertIsNone(node.annotation, where)

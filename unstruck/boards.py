@@ -33,6 +33,10 @@ def cells_of(board):
     return cells
 
 
+def columns_in(line):
+    return [column for column, sign in enumerate(line) if sign == CELL]
+
+
 def column_of(board, column):
     return "".join([line[column] for line in board])
 

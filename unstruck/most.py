@@ -1,10 +1,6 @@
 """The most pieces that can be placed, lines that cover the board, and a bare part of it."""
 
-from unstruck.boards import CELL
-
-
-def columns_in(line):
-    return [column for column, sign in enumerate(line) if sign == CELL]
+from unstruck.boards import columns_in
 
 
 def takes_column(choices, holders, row, tried):
