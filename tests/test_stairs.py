@@ -331,6 +331,7 @@ class FactorsOfRow(Asked):
     def test_known_other_boards(self):
         for board, factors in OTHER_ROWS:
             self.assertTrue(crossing(board), board)
+            self.assertEqual(factors_by_slopes(row_of(board)), factors, board)
             self.assert_numbers(factors_of_row(row_of(board)), factors, board)
 
     def test_known_rows(self):
